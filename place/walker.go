@@ -60,6 +60,16 @@ func walk(s string, unit int) (walker, error) {
 	return walker{text{s}, m}, nil
 }
 
+// walkLine is that, and the line of a number.
+func walkLine(s string, n, unit int) (walker, span, error) {
+	w, err := walk(s, unit)
+	if err != nil {
+		return walker{}, span{}, err
+	}
+	l, err := w.line(n)
+	return w, l, err
+}
+
 // stops goes through a line's places, up to its end, that too.
 func (w walker) stops(l span) iter.Seq[stop] {
 	return func(yield func(stop) bool) {
