@@ -1,6 +1,7 @@
 package glyph_test
 
 import (
+	"maps"
 	"slices"
 	"strings"
 	"sync"
@@ -335,14 +336,32 @@ func TestNewMemory(t *testing.T) {
 	}
 }
 
+// P3.1: all classes at once are those that are told one by one.
+func TestClasses(t *testing.T) {
+	want := map[string]int{}
+	for _, x := range rows() {
+		want[x.glyph] = x.class
+	}
+	a, b := glyph.Classes(), glyph.Classes()
+	if !maps.Equal(a, want) || !maps.Equal(b, want) {
+		t.Fatalf("Classes: %v, %v, not %v", a, b, want)
+	}
+	clear(a)
+	a["+"], a["x"] = api.ClassOp, api.ClassFn
+	if c := glyph.Classes(); !maps.Equal(b, want) || !maps.Equal(c, want) {
+		t.Errorf("Classes behind a change of what was answered: %v, %v", b, c)
+	}
+}
+
 // R4: what is made once is made for all that ask at one time.
 func TestAtOnce(t *testing.T) {
 	var all sync.WaitGroup
 	for range 50 {
 		all.Go(func() {
+			classes := glyph.Classes()
 			for _, x := range rows() {
-				if c := glyph.Class(x.glyph); c != x.class {
-					t.Errorf("Class(%q): %d, not %d", x.glyph, c, x.class)
+				if c, d := glyph.Class(x.glyph), classes[x.glyph]; c != x.class || d != x.class {
+					t.Errorf("Class(%q): %d, of Classes %d, not %d", x.glyph, c, d, x.class)
 				}
 			}
 		})

@@ -68,21 +68,28 @@ func signs() iter.Seq[sign] {
 	}
 }
 
+// signOf is the sign of a glyph, the zero sign of what is none.
+func signOf(g string) sign {
+	for x := range signs() {
+		if x.glyph == g {
+			return x
+		}
+	}
+	return sign{}
+}
+
 var (
 	once    sync.Once
 	byGlyph map[string]int
 )
 
-// classes are the glyphs' classes. Their map is made once, as lexers ask it for
-// each token, and is written nowhere else.
-func classes() map[string]int {
-	once.Do(func() {
-		byGlyph = make(map[string]int, len(table))
-		for x := range signs() {
-			byGlyph[x.glyph] = x.class
-		}
-	})
-	return byGlyph
+// fill makes the map of the glyphs' classes. It is for Classes alone: what else
+// is told of a glyph hangs on no variable that is filled on the way.
+func fill() {
+	byGlyph = make(map[string]int, len(table))
+	for x := range signs() {
+		byGlyph[x.glyph] = x.class
+	}
 }
 
 // drawn is how a sign stands in a text with glyphs.
